@@ -1,0 +1,31 @@
+// Package tariff: pricing rules over fields that not everybody may see: see DOC.md.
+package tariff
+
+import (
+	"tariff/api"
+	"tariff/check"
+)
+
+// Check tells whether a text is rules that may be used (P3 to P6).
+func Check(text string) (api.Errno, int) { return check.Text(text) }
+
+// Labels tells the label of each name (P7).
+func Labels(text string) ([api.Names]int, api.Errno) { return [api.Names]int{}, api.OK }
+
+// Run tells the notes that rules leave (P8).
+func Run(text string, fields []int) ([]api.Note, api.Errno) { return nil, api.OK }
+
+// Valid tells whether instructions are a program (P9).
+func Valid(code []api.Ins) (api.Errno, int) { return api.OK, 0 }
+
+// Exec runs a program (P10).
+func Exec(code []api.Ins, fields []int) ([]api.Note, api.Errno) { return nil, api.OK }
+
+// Compile makes a program of rules (P11).
+func Compile(text string) ([]api.Ins, api.Errno) { return nil, api.OK }
+
+// Bill writes what a reader may see (P12).
+func Bill(text string, fields []int, reader int) (string, api.Errno) { return "", api.OK }
+
+// Read reads a bill (P13).
+func Read(bill string) ([]api.Line, api.Errno) { return nil, api.OK }
