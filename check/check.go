@@ -6,23 +6,37 @@ import (
 	"tariff/syntax"
 )
 
-// Text answers the first error of the text, and the place that it names.
-func Text(text string) (api.Errno, int) {
+// Rules: what a text says, if it is rules that may be used; else the first
+// error, the place that it names, and nothing more.
+type Rules struct {
+	Errno  api.Errno
+	Place  int
+	Tree   syntax.Tree
+	Labels [api.Names]int
+}
+
+// Text looks for errors in the order in which the document names them.
+func Text(text string) Rules {
 	if len(text) > api.MaxText {
-		return api.ErrLong, 0
+		return Rules{Errno: api.ErrLong}
 	}
 	tree, place, ok := syntax.Parse(text)
 	if !ok {
-		return api.ErrSyntax, place
+		return Rules{Errno: api.ErrSyntax, Place: place}
 	}
 	place, ok = headsDiffer(tree.Heads)
 	if !ok {
-		return api.ErrName, place
+		return Rules{Errno: api.ErrName, Place: place}
 	}
 	if workOfAll(tree.Rules) > api.MaxWork {
-		return api.ErrLarge, 0
+		return Rules{Errno: api.ErrLarge}
 	}
-	return api.OK, 0
+	labels := labelsOf(tree)
+	place, ok = allClean(tree.Rules, 0, labels)
+	if !ok {
+		return Rules{Errno: api.ErrFlow, Place: place}
+	}
+	return Rules{Tree: tree, Labels: labels}
 }
 
 // headsDiffer answers true; or, if there is a head whose name stands in one

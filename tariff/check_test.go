@@ -14,12 +14,18 @@ type want struct {
 	place int
 }
 
+// checkAll looks at what Check answers; and at Labels, which must tell the same
+// error, and nothing else.
 func checkAll(t *testing.T, wants []want) {
 	t.Helper()
 	for _, w := range wants {
 		errno, place := tariff.Check(w.text)
 		if errno != w.errno || place != w.place {
 			t.Errorf("Check(%.90q) = %d, %d, want %d, %d", w.text, errno, place, w.errno, w.place)
+		}
+		labels, errno := tariff.Labels(w.text)
+		if errno != w.errno || errno != api.OK && labels != [api.Names]int{} {
+			t.Errorf("Labels(%.90q) = %v, %d, want the error %d", w.text, labels, errno, w.errno)
 		}
 	}
 }
@@ -32,8 +38,17 @@ func nest(open, inner, close string, times int) string {
 // where one is named.
 func TestErrorsInOrder(t *testing.T) {
 	const large = "*9{*9{*9{*9{x=1;}}}}"
+	const leak = ">-b;"
 	long := strings.Repeat(" ", 400)
 	checkAll(t, []want{
+		{"?b:A;?b:A;" + leak + large + "}" + long, api.ErrLong, 0},
+		{"?b:A;?b:A;" + leak + large + "}", api.ErrSyntax, 34},
+		{"?b:A;?b:A;" + leak + "x=", api.ErrSyntax, 16},
+		{"?b:A;?b:A;" + leak + large, api.ErrName, 6},
+		{"?b:A;!b:-;" + leak, api.ErrName, 6},
+		{"?b:A;" + leak + large, api.ErrLarge, 0},
+		{"?b:A;" + large + leak, api.ErrLarge, 0},
+		{"?b:A;" + leak + "*9{*9{*9{x=1;}}}", api.ErrFlow, 5},
 		{"?a:-;?a:-;" + large + "}" + long, api.ErrLong, 0},
 		{"?a:-;?a:-;" + large + "}", api.ErrSyntax, 30},
 		{"?a:-;?a:-;" + large + "x=", api.ErrSyntax, 32},

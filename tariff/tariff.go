@@ -7,10 +7,16 @@ import (
 )
 
 // Check tells whether a text is rules that may be used (P3 to P6).
-func Check(text string) (api.Errno, int) { return check.Text(text) }
+func Check(text string) (api.Errno, int) {
+	rules := check.Text(text)
+	return rules.Errno, rules.Place
+}
 
 // Labels tells the label of each name (P7).
-func Labels(text string) ([api.Names]int, api.Errno) { return [api.Names]int{}, api.OK }
+func Labels(text string) ([api.Names]int, api.Errno) {
+	rules := check.Text(text)
+	return rules.Labels, rules.Errno
+}
 
 // Run tells the notes that rules leave (P8).
 func Run(text string, fields []int) ([]api.Note, api.Errno) { return nil, api.OK }
