@@ -66,6 +66,8 @@ func TestOpened(t *testing.T) {
 		{"?a:A;(a){^x:-=1;}", api.ErrFlow, 9}, {"?a:A;(a){}{^x:-=1;}", api.ErrFlow, 11}, {"?a:A;(a){^x:B=1;}", api.ErrFlow, 9}, {"?a:A;(a){^x:A=1;}>A x;", api.OK, 0}, {"?a:A;(a){^x:A=1;}>-x;", api.ErrFlow, 17}, {"?a:A;(a){^x:AB=1;}>A x;", api.ErrFlow, 18}, {"?a:A;*2{(a){*2{^x:-=1;}}}", api.ErrFlow, 15},
 		{"?a:A;?b:B;(a){^x:A=b;}>A x;", api.OK, 0}, {"?a:A;?b:B;(a){(b){^x:A=1;}}", api.ErrFlow, 18}, {"?a:A;?b:B;(a){(b){^x:AB=1;}}", api.OK, 0},
 		{"?a:A;!x:B;(a){^x:AB=1;}", api.ErrFlow, 14}, {"?a:A;!x:AB;(a){^x:B=1;}", api.ErrFlow, 15}, {"?a:A;!x:-;(a){^x:A=1;}", api.ErrFlow, 14}, {"?a:A;!x:A;(a){^x:A=1;}", api.OK, 0}, {"?a:A;!x:A;(a){^x:-=1;}", api.ErrFlow, 14},
+		// The ground enlarges the name's label, though the rule that opens is not clean: the one ahead of it is not, either.
+		{"?a:A;>-x;(a){^x:-=1;}", api.ErrFlow, 5}, {"?a:A;>A x;(a){^x:-=1;}", api.ErrFlow, 14},
 	})
 }
 
