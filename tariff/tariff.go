@@ -4,6 +4,7 @@ package tariff
 import (
 	"tariff/api"
 	"tariff/check"
+	"tariff/run"
 )
 
 // Check tells whether a text is rules that may be used (P3 to P6).
@@ -19,7 +20,9 @@ func Labels(text string) ([api.Names]int, api.Errno) {
 }
 
 // Run tells the notes that rules leave (P8).
-func Run(text string, fields []int) ([]api.Note, api.Errno) { return nil, api.OK }
+func Run(text string, fields []int) ([]api.Note, api.Errno) {
+	return run.Text(text, fields)
+}
 
 // Valid tells whether instructions are a program (P9).
 func Valid(code []api.Ins) (api.Errno, int) { return api.OK, 0 }
