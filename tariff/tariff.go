@@ -4,6 +4,8 @@ package tariff
 import (
 	"tariff/api"
 	"tariff/check"
+	"tariff/compile"
+	"tariff/program"
 	"tariff/run"
 )
 
@@ -25,13 +27,20 @@ func Run(text string, fields []int) ([]api.Note, api.Errno) {
 }
 
 // Valid tells whether instructions are a program (P9).
-func Valid(code []api.Ins) (api.Errno, int) { return api.OK, 0 }
+func Valid(code []api.Ins) (api.Errno, int) {
+	verdict := program.Judge(code)
+	return verdict.Errno, verdict.Place
+}
 
 // Exec runs a program (P10).
-func Exec(code []api.Ins, fields []int) ([]api.Note, api.Errno) { return nil, api.OK }
+func Exec(code []api.Ins, fields []int) ([]api.Note, api.Errno) {
+	return program.Exec(code, fields)
+}
 
 // Compile makes a program of rules (P11).
-func Compile(text string) ([]api.Ins, api.Errno) { return nil, api.OK }
+func Compile(text string) ([]api.Ins, api.Errno) {
+	return compile.Text(text)
+}
 
 // Bill writes what a reader may see (P12).
 func Bill(text string, fields []int, reader int) (string, api.Errno) { return "", api.OK }

@@ -306,11 +306,10 @@ func (w *worker) head(all *world) []int {
 	return fields
 }
 
-// P8: rules of every make, against a second way to work them out.
-func TestWorkedOut(t *testing.T) {
-	source := rand.New(rand.NewSource(8))
-	var tried, opened, faults, short, full int
-	for tried < 6000 {
+// cleanRules answers a text that Check lets pass, fields for it, and the notes
+// that it leaves with them.
+func cleanRules(source *rand.Rand) (string, []int, []api.Note) {
+	for {
 		w := &worker{source: source, names: "abcxyz"[:1+source.Intn(6)], open: source.Intn(3) > 0}
 		var all world
 		for i := range all.names {
@@ -322,16 +321,25 @@ func TestWorkedOut(t *testing.T) {
 			deeds = append(deeds, w.rule(0))
 		}
 		text := w.text.String()
-		errno, _ := tariff.Check(text)
-		if errno != api.OK {
+		if errno, _ := tariff.Check(text); errno != api.OK {
 			continue
 		}
-		tried++
 		for _, do := range deeds {
 			do(&all)
 		}
+		return text, fields, all.notes
+	}
+}
+
+// P8: rules of every make, against a second way to work them out.
+func TestWorkedOut(t *testing.T) {
+	source := rand.New(rand.NewSource(8))
+	const tries = 6000
+	var opened, faults, short, full int
+	for range tries {
+		text, fields, wanted := cleanRules(source)
 		notes, errno := tariff.Run(text, fields)
-		if got, wanted := written(notes), written(all.notes); errno != api.OK || got != wanted {
+		if got, wanted := written(notes), written(wanted); errno != api.OK || got != wanted {
 			t.Fatalf("Run(%q, %d) = %s, %d, want %s", text, fields, got, errno, wanted)
 		}
 		for _, note := range notes {
@@ -346,8 +354,8 @@ func TestWorkedOut(t *testing.T) {
 			full++
 		}
 	}
-	t.Logf("%d texts, %d with less than 3 notes, %d with more than 10; %d opened, %d faults", tried, short, full, opened, faults)
-	if short > tried*2/3 || full < tried/20 || opened < tried/4 || faults < tried/4 {
-		t.Errorf("too few: %d texts, %d with less than 3 notes, %d with more than 10; %d opened, %d faults", tried, short, full, opened, faults)
+	t.Logf("%d texts, %d with less than 3 notes, %d with more than 10; %d opened, %d faults", tries, short, full, opened, faults)
+	if short > tries*2/3 || full < tries/20 || opened < tries/4 || faults < tries/4 {
+		t.Errorf("too few: %d texts, %d with less than 3 notes, %d with more than 10; %d opened, %d faults", tries, short, full, opened, faults)
 	}
 }
