@@ -30,11 +30,11 @@ func isClean(rule syntax.Rule, ground int, labels [api.Names]int) bool {
 	all := ground | labelOf(rule.Expr, labels)
 	switch rule.Kind {
 	case syntax.Give:
-		return flows(all, labels[rule.Name])
+		return Flows(all, labels[rule.Name])
 	case syntax.Open:
-		return flows(ground, rule.Label) && flows(rule.Label, labels[rule.Name])
+		return Flows(ground, rule.Label) && Flows(rule.Label, labels[rule.Name])
 	case syntax.Tell:
-		return flows(all, rule.Label)
+		return Flows(all, rule.Label)
 	}
 	return true
 }

@@ -49,7 +49,7 @@ func (l *labeling) enlargeFor(rule syntax.Rule, ground int) {
 }
 
 func (l *labeling) enlarge(name, label int) {
-	if l.fixed[name] || flows(label, l.labels[name]) {
+	if l.fixed[name] || Flows(label, l.labels[name]) {
 		return
 	}
 	l.labels[name] |= label
@@ -68,7 +68,7 @@ func labelOf(expr []syntax.Part, labels [api.Names]int) int {
 	return label
 }
 
-// flows tells whether each secret of the one label is in the other.
-func flows(label, other int) bool {
+// Flows tells whether each secret of the one label is in the other.
+func Flows(label, other int) bool {
 	return label|other == other
 }

@@ -72,7 +72,7 @@ func TestPlacesOfErrors(t *testing.T) {
 }
 
 var (
-	someTexts = []string{"?p:-;?n:-;>-p*n;", "?p:A;?n:B;x=p;(n){y=1;>AB x;}{*3{z=z+1;}}", "?p:-;?n:-;^x:-=n/10;>-x;", "?p:-;?n:-;p=n+1;n=7;*9{>-p-n;}", "?a:A;?a:B;", "x=;", "*9{*9{*9{*9{x=1;}}}}", "", "3:1\n"}
+	someTexts = []string{"?p:-;?n:-;>-p*n;", "?p:A;?n:B;x=p;(n){y=1;>AB x;}{*3{z=z+1;}}", "?p:-;?n:-;^x:-=n/10;>-x;", "?p:-;?n:-;p=n+1;n=7;*9{>-p-n;}", "?a:A;?a:B;", "x=;", "*9{*9{*9{*9{x=1;}}}}", "", "3:1\n", "400:-305\n12:!2\n0:0\n", "3:-0\n"}
 	someCode  = []api.Ins{{Op: api.Set, A: 0, B: 5}, {Op: api.Tell, A: 3, B: 1, C: 0}, {Op: api.In, A: 1, B: 1}, {Op: api.Tell, A: 4, B: 0, C: 1}, {Op: api.End}}
 )
 

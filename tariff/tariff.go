@@ -3,6 +3,7 @@ package tariff
 
 import (
 	"tariff/api"
+	"tariff/bills"
 	"tariff/check"
 	"tariff/compile"
 	"tariff/program"
@@ -43,7 +44,11 @@ func Compile(text string) ([]api.Ins, api.Errno) {
 }
 
 // Bill writes what a reader may see (P12).
-func Bill(text string, fields []int, reader int) (string, api.Errno) { return "", api.OK }
+func Bill(text string, fields []int, reader int) (string, api.Errno) {
+	return bills.Text(text, fields, reader)
+}
 
 // Read reads a bill (P13).
-func Read(bill string) ([]api.Line, api.Errno) { return nil, api.OK }
+func Read(bill string) ([]api.Line, api.Errno) {
+	return bills.Read(bill)
+}
